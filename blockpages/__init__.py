@@ -1,0 +1,1 @@
+"""Blockpages: pages made of elder pages with their blocks filled anew."""
